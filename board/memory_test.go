@@ -32,6 +32,14 @@ func piecesOf(v reflect.Value) (l []piece) {
 	return l
 }
 
+// piecesOfAll finds all lists in some values. They are to be made ahead of it, all of them: what nobody holds any more may lend its place to what is made next.
+func piecesOfAll(values []any) (l []piece) {
+	for _, x := range values {
+		l = append(l, piecesOf(reflect.ValueOf(x))...)
+	}
+	return l
+}
+
 // shares tells whether two lists overlap.
 func shares(a, b piece) bool { return a.at < b.at+b.size && b.at < a.at+a.size }
 
@@ -158,14 +166,9 @@ func TestAnswersShareNothing(t *testing.T) {
 	b := board.New(s)
 	b.Cost(costs)
 	clone := b.Clone()
-	var pieces []piece
-	for _, x := range []any{s, costs, ask(b), ask(clone)} {
-		pieces = append(pieces, piecesOf(reflect.ValueOf(x))...)
-	}
+	values := []any{s, costs, ask(b), ask(clone)}
 	changes(t, b)
-	for _, x := range []any{ask(b), ask(b), ask(clone), ask(b.Clone())} {
-		pieces = append(pieces, piecesOf(reflect.ValueOf(x))...)
-	}
+	pieces := piecesOfAll(append(values, ask(b), ask(b), ask(clone), ask(b.Clone())))
 	for i, x := range pieces {
 		for _, y := range pieces[:i] {
 			if shares(x, y) {

@@ -33,6 +33,14 @@ func piecesOf(v reflect.Value) (l []piece) {
 	return l
 }
 
+// piecesOfAll finds all lists in some values. They are to be made ahead of it, all of them: what nobody holds any more may lend its place to what is made next.
+func piecesOfAll(values []any) (l []piece) {
+	for _, x := range values {
+		l = append(l, piecesOf(reflect.ValueOf(x))...)
+	}
+	return l
+}
+
 // shares tells whether two lists overlap.
 func shares(a, b piece) bool { return a.at < b.at+b.size && b.at < a.at+a.size }
 
@@ -158,8 +166,8 @@ func TestByHand(t *testing.T) {
 
 // R3: answers share no memory with one another, of the same call and of another one, nor with what was handed in; no two lists of one answer do.
 func TestAnswersShareNothing(t *testing.T) {
-	var pieces []piece
-	add := func(x any) { pieces = append(pieces, piecesOf(reflect.ValueOf(x))...) }
+	var values []any
+	add := func(x any) { values = append(values, x) }
 	for _, s := range byHand() {
 		add(s)
 		add(climb.Run(s))
@@ -169,6 +177,7 @@ func TestAnswersShareNothing(t *testing.T) {
 	add(s)
 	add(climb.Up(b, s))
 	add(climb.Up(b, s))
+	pieces := piecesOfAll(values)
 	for i, x := range pieces {
 		for _, y := range pieces[:i] {
 			if shares(x, y) {
