@@ -157,7 +157,10 @@ func TestAnswersByHand(t *testing.T) {
 
 // P19.7: each answer that is one byte away from a right one: one byte less, one more, another one.
 func TestOneByteAway(t *testing.T) {
-	others := []byte("\n\t\r /+-.:0123456789ednxa\x00\xff")
+	var others []byte
+	for b := range 256 {
+		others = append(others, byte(b))
+	}
 	for _, text := range []string{example, "min x st x >= 1 -x >= 0 end", "max x + 1/2 y st x - y = -2/7 end", "min 10 st c: -1 <= 0 end", "min st end"} {
 		p := problem(text)
 		second := secondReader(p)
